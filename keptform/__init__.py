@@ -1,0 +1,1 @@
+"""Keptform: letters that keep their form between masters."""
