@@ -3,6 +3,7 @@
 from keptform.errors import BadValue
 from keptform.letters import FARTHEST, all_corners, has_places, is_coordinate, is_drawing, need_letter, next_corner
 from keptform.values import common_bottom, is_fraction_between, is_whole, is_whole_between, top_over
+from keptform.vectors import cross_product, step
 
 
 def _is_mixed_coordinate(value):
@@ -31,7 +32,7 @@ def scaled(drawing):
 
 def turn(before, at, after):
     """The turn at a place between two others: above 0 to the left, below 0 to the right."""
-    return (at[0] - before[0]) * (after[1] - at[1]) - (at[1] - before[1]) * (after[0] - at[0])
+    return cross_product(step(before, at), step(at, after))
 
 
 def lies_on(place, start, end):

@@ -43,6 +43,20 @@ def next_corner(letter, corner):
     return (ring, (number + 1) % len(letter[ring]))
 
 
+def is_corner(letter, value):
+    """Whether value tells a corner of the letter, or the side that begins there."""
+    if not is_row(value, 2, 2) or not is_whole_between(value[0], 0, len(letter) - 1):
+        return False
+    return is_whole_between(value[1], 0, len(letter[value[0]]) - 1)
+
+
+def needed_corner(letter, value, at):
+    """The corner or side as a plain tuple; what is none is refused, at being its position among the arguments."""
+    if not is_corner(letter, value):
+        raise BadValue(at)
+    return tuple(value)
+
+
 def is_coordinate(value):
     """Whether value is a coordinate of a place that is passed by itself."""
     return is_whole_between(value, -FARTHEST, FARTHEST)

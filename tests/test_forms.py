@@ -5,7 +5,7 @@ import random
 import unittest
 from fractions import Fraction
 
-from keptform.errors import BadValue
+from helpers import ODD_VALUES, Case, as_lists, common_inner_place, exact_drawing, slow_fault
 from keptform.forms import fault, inside
 from keptform.letters import mixture
 
@@ -13,11 +13,6 @@ SQUARE = ((0, 0), (8, 0), (8, 8), (0, 8))
 LEFT = ("left", "left", "left", "left")
 ANY = ("any", "any", "any", "any")
 THREE = ("any", "any", "any")
-ODD_VALUES = (None, True, 0, 1, 10 ** 30, "", "abc", (), [], ((),), ("abc",), (("ab", "cd", "ef"),), ((1, 2, 3),))
-
-
-def as_lists(value):
-    return [as_lists(part) for part in value] if isinstance(value, (list, tuple)) else value
 
 
 def as_fractions(drawing):
@@ -30,71 +25,6 @@ def shrunk(drawing, bottom):
     return tuple(tuple(tuple((w.numerator, w.denominator) for w in place) for place in row) for row in rows)
 
 
-def exact(mixed):
-    """A drawing of pairs (top, bottom) as one of Fractions."""
-    return tuple(tuple(tuple(Fraction(*worth) for worth in place) for place in row) for row in mixed)
-
-
-def corners_of(letter):
-    return [(r, k) for r, row in enumerate(letter) for k in range(len(row))]
-
-
-def ends_of(letter, side):
-    r, k = side
-    return [side, (r, 0 if k + 1 == len(letter[r]) else k + 1)]
-
-
-def share_of(place, start, end):
-    """The share of the side at which the place lies, or None; the side has not fallen."""
-    axis = 0 if start[0] != end[0] else 1
-    share = Fraction(place[axis] - start[axis]) / (end[axis] - start[axis])
-    for c in range(2):
-        if (1 - share) * start[c] + share * end[c] != place[c]:
-            return None
-    return share if 0 <= share <= 1 else None
-
-
-def common_inner_place(a, b, c, d):
-    """Whether the sides a b and c d, of which none has fallen, have a place in common that is an end of neither."""
-    ab, cd, ac = [(q[0] - p[0], q[1] - p[1]) for p, q in ((a, b), (c, d), (a, c))]
-    whole = ab[0] * cd[1] - ab[1] * cd[0]
-    if whole:
-        s = Fraction(ac[0] * cd[1] - ac[1] * cd[0]) / whole
-        t = Fraction(ac[0] * ab[1] - ac[1] * ab[0]) / whole
-        return 0 < s < 1 and 0 < t < 1
-    if ac[0] * ab[1] != ac[1] * ab[0]:
-        return False
-    axis = 0 if ab[0] else 1
-    low = max(min(a[axis], b[axis]), min(c[axis], d[axis]))
-    high = min(max(a[axis], b[axis]), max(c[axis], d[axis]))
-    return low < high
-
-
-def slow_fault(letter, drawing):
-    """What DOC.md says of fault, point by point."""
-    at = {(r, k): tuple(place) for r, row in enumerate(drawing) for k, place in enumerate(row)}
-    sides = {side: [at[end] for end in ends_of(letter, side)] for side in corners_of(letter)}
-    for side in sorted(sides):
-        if sides[side][0] == sides[side][1]:
-            return ("fall", side)
-    for corner in sorted(at):
-        for side in sorted(sides):
-            if corner not in ends_of(letter, side) and share_of(at[corner], *sides[side]) is not None:
-                return ("touch", corner, side)
-    for side in sorted(sides):
-        for other in sorted(sides):
-            if other != side and common_inner_place(*sides[side], *sides[other]):
-                return ("cross", side, other)
-    for corner in sorted(at):
-        r, k = corner
-        (x0, y0), (x1, y1), (x2, y2) = at[r, (k or len(letter[r])) - 1], at[corner], at[ends_of(letter, corner)[1]]
-        worth = (x1 - x0) * (y2 - y1) - (y1 - y0) * (x2 - x1)
-        sign = "left" if worth > 0 else "right" if worth < 0 else "straight"
-        if letter[r][k] not in ("any", sign):
-            return ("bend", corner)
-    return None
-
-
 def slow_inside(letter, drawing, ring, other):
     """A ray that misses all corners meets the other ring's sides an odd number of times."""
     x, y = drawing[ring][0]
@@ -105,21 +35,7 @@ def slow_inside(letter, drawing, ring, other):
     return met % 2 == 1
 
 
-class Case(unittest.TestCase):
-    def refused(self, at, call, *args):
-        with self.assertRaises(BadValue) as caught:
-            call(*args)
-        self.assertIs(type(caught.exception), BadValue)
-        self.assertEqual(caught.exception.at, at)
-
-    def plain(self, value):
-        if isinstance(value, (list, tuple)):
-            self.assertIs(type(value), tuple)
-            for part in value:
-                self.plain(part)
-        elif not isinstance(value, str) and value is not None:
-            self.assertIs(type(value), int)
-
+class FormCase(Case):
     def told(self, letter, drawing, answer):
         """The answer for the drawing in integers, in fractions, smaller, and in lists."""
         self.assertEqual(slow_fault(letter, drawing), answer)
@@ -130,7 +46,7 @@ class Case(unittest.TestCase):
         self.assertEqual(fault(as_lists(letter), drawing), answer)
 
 
-class FallTest(Case):
+class FallTest(FormCase):
     def test_each_side(self):
         for k in range(4):
             row = list(SQUARE)
@@ -165,7 +81,7 @@ class FallTest(Case):
         self.told((ANY,), (((0, 0), (5, 0), (0, 0), (0, 5)),), ("touch", (0, 0), (0, 1)))
 
 
-class TouchTest(Case):
+class TouchTest(FormCase):
     def test_inner_place_of_a_side(self):
         self.told((THREE, THREE), (((0, 0), (8, 0), (0, 8)), ((4, 0), (8, -9), (0, -9))), ("touch", (1, 0), (0, 0)))
 
@@ -218,7 +134,7 @@ class TouchTest(Case):
         self.assertEqual(fault(letter, over), ("cross", (0, 0), (1, 0)))
 
 
-class CrossTest(Case):
+class CrossTest(FormCase):
     def test_in_one_ring(self):
         self.told((ANY,), (((0, 0), (8, 8), (8, 0), (0, 8)),), ("cross", (0, 0), (0, 2)))
         self.told((ANY,), (((0, 0), (8, 0), (0, 8), (8, 8)),), ("cross", (0, 1), (0, 3)))
@@ -245,7 +161,7 @@ class CrossTest(Case):
         self.told((ANY,), (((-99, -99), (99, 98), (99, 99), (-99, -98)),), None)
 
 
-class BendTest(Case):
+class BendTest(FormCase):
     def test_manners(self):
         for manner, answer in (("any", None), ("left", None), ("right", ("bend", (0, 0))),
                                ("straight", ("bend", (0, 0)))):
@@ -275,7 +191,7 @@ class BendTest(Case):
         self.assertEqual(fault(letter, (((0, 0), ((1, 3), (333333, 10 ** 6)), (1, 1), (0, 8)),)), ("bend", (0, 1)))
 
 
-class FaultTest(Case):
+class FaultTest(FormCase):
     def test_example_of_the_document(self):
         letter = (("left", "left", "any", "left"),)
         self.told(letter, (((0, 0), (8, 0), (8, 8), (0, 8)),), None)
@@ -304,7 +220,7 @@ class FaultTest(Case):
         nearby = (straight[0], (straight[1][0] - 1, straight[1][1]))
         bent = ((mixed[0][0], nearby) + mixed[0][2:],)
         self.assertEqual(fault(letter, bent), ("bend", (0, 1)))
-        self.assertEqual(slow_fault(letter, exact(bent)), ("bend", (0, 1)))
+        self.assertEqual(slow_fault(letter, exact_drawing(bent)), ("bend", (0, 1)))
 
     def test_integers_and_fractions_side_by_side(self):
         self.assertIsNone(fault((LEFT,), (((0, (0, 1)), ((17, 2), 0), [[8, 1], 8], (0, 8)),)))
@@ -372,10 +288,10 @@ class FaultTest(Case):
             bottom = chance.choice((2, 3, 5))
             top = chance.randint(1, bottom - 1)
             mixed = mixture(letter, masters, ((top, bottom), (bottom - top, bottom)))
-            self.assertEqual(fault(letter, mixed), slow_fault(letter, exact(mixed)))
+            self.assertEqual(fault(letter, mixed), slow_fault(letter, exact_drawing(mixed)))
 
 
-class InsideTest(Case):
+class InsideTest(FormCase):
     BIG = ((-20, -20), (20, -20), (20, 20), (-20, 20))
     SMALL = ((0, 0), (4, 0), (0, 4))
 

@@ -8,6 +8,11 @@ FUNCTIONS = {
     "letters": {"is_letter": ["value"], "is_drawing": ["letter", "value"],
                 "mixture": ["letter", "masters", "weights"]},
     "forms": {"fault": ["letter", "drawing"], "inside": ["letter", "drawing", "ring", "other"]},
+    "turns": {"least_turn": ["letter", "masters", "corner"], "greatest_turn": ["letter", "masters", "corner"],
+              "area": ["letter", "masters", "ring"]},
+    "shares": {"shares": ["letter", "masters", "corner", "side"]},
+    "rooms": {"meetings": ["letter", "masters"], "fallen": ["letter", "masters"], "bent": ["letter", "masters"],
+              "is_kept": ["letter", "masters"]},
 }
 CLASSES = {
     "errors": {"FormError": None, "BadValue": ["self", "at"], "BadText": ["self", "at"], "BadLevels": ["self", "at"],

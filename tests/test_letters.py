@@ -6,7 +6,7 @@ import unittest
 from fractions import Fraction
 from math import gcd
 
-from keptform.errors import BadValue
+from helpers import Case, as_lists
 from keptform.letters import is_drawing, is_letter, mixture
 
 ODD_VALUES = (None, True, False, 0, 1, -1, 10 ** 30, "", "any", "left\n", (), [], ("left",), ((),), [[]], (((),),),
@@ -23,27 +23,6 @@ def ring(many, manner="any"):
 
 def drawing_of(letter, place=(3, -7)):
     return tuple(tuple(place for _ in row) for row in letter)
-
-
-def as_lists(value):
-    return [as_lists(part) for part in value] if isinstance(value, (list, tuple)) else value
-
-
-class Case(unittest.TestCase):
-    def refused(self, at, call, *args):
-        with self.assertRaises(BadValue) as caught:
-            call(*args)
-        self.assertIs(type(caught.exception), BadValue)
-        self.assertEqual(caught.exception.at, at)
-
-    def plain(self, value):
-        """Only plain tuples and integers, at every level."""
-        if isinstance(value, tuple):
-            self.assertIs(type(value), tuple)
-            for part in value:
-                self.plain(part)
-        else:
-            self.assertIs(type(value), int)
 
 
 class LetterTest(Case):
