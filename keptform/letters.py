@@ -26,6 +26,16 @@ def is_letter(value):
     return sum([len(ring) for ring in value]) <= MOST_CORNERS
 
 
+def plain_letter(letter):
+    """The letter, of tuples only."""
+    return tuple([tuple(ring) for ring in letter])
+
+
+def plain_drawing(drawing):
+    """The drawing, of tuples only."""
+    return tuple([tuple([tuple(place) for place in ring]) for ring in drawing])
+
+
 def need_letter(letter, at):
     """Refuse what is no letter; at is its position among the arguments."""
     if not is_letter(letter):
@@ -62,11 +72,14 @@ def is_coordinate(value):
     return is_whole_between(value, -FARTHEST, FARTHEST)
 
 
+def is_place(value, is_number):
+    """Whether value is a place, with coordinates that are such numbers."""
+    return is_row(value, 2, 2) and all([is_number(worth) for worth in value])
+
+
 def _is_ring_of_places(value, many, is_number):
     """Whether value is a sequence of so many places."""
-    if not is_row(value, many, many):
-        return False
-    return all([is_row(place, 2, 2) and all([is_number(worth) for worth in place]) for place in value])
+    return is_row(value, many, many) and all([is_place(place, is_number) for place in value])
 
 
 def has_places(letter, value, is_number):
@@ -82,14 +95,20 @@ def is_drawing(letter, value):
     return has_places(letter, value, is_coordinate)
 
 
-def is_masters(letter, value):
-    """Whether value is masters of the letter."""
-    return is_row(value, 1, MOST_MASTERS) and all([has_places(letter, drawing, is_coordinate) for drawing in value])
+def need_drawing(letter, drawing, at):
+    """Refuse what is no drawing of the letter; at is its position among the arguments."""
+    if not has_places(letter, drawing, is_coordinate):
+        raise BadValue(at)
+
+
+def is_row_of_drawings(letter, value, fewest, most):
+    """Whether value is a sequence of so many drawings of the letter."""
+    return is_row(value, fewest, most) and all([has_places(letter, drawing, is_coordinate) for drawing in value])
 
 
 def need_masters(letter, masters, at):
     """Refuse what is no masters of the letter; at is their position among the arguments."""
-    if not is_masters(letter, masters):
+    if not is_row_of_drawings(letter, masters, 1, MOST_MASTERS):
         raise BadValue(at)
 
 

@@ -2,23 +2,12 @@
 
 from itertools import combinations
 
-from keptform.roots import ascending, compare, roots_of, sign_at
-from keptform.vectors import cross_product, dot_product
-
-NOTHING = (0, 1)
-WHOLE = (1, 1)
-
-
-def _moving(multiply, one, other):
-    """The product of two moving vectors, as a polynomial of the share."""
-    rate, start = one
-    other_rate, other_start = other
-    return (multiply(rate, other_rate), multiply(rate, other_start) + multiply(start, other_rate),
-            multiply(start, other_start))
+from keptform.roots import NOTHING, marks_of, sign_at
+from keptform.vectors import cross_product, dot_product, moving_product
 
 
 class Means:
-    """The means of vectors, one for each master; each is given by (rate, start) and is start + share * rate."""
+    """The means of vectors, one for each master, that move with a share."""
 
     def __init__(self, vectors):
         self.many = len(vectors)
@@ -26,8 +15,8 @@ class Means:
         self.dots = {}
         for i in range(self.many):
             for j in range(i, self.many):
-                self.crosses[(i, j)] = _moving(cross_product, vectors[i], vectors[j])
-                self.dots[(i, j)] = _moving(dot_product, vectors[i], vectors[j])
+                self.crosses[(i, j)] = moving_product(cross_product, vectors[i], vectors[j])
+                self.dots[(i, j)] = moving_product(dot_product, vectors[i], vectors[j])
 
     def have_zero(self, share):
         """Whether some mean is the zero vector at this share."""
@@ -47,10 +36,7 @@ class Means:
         """Ascending shares from 0 to 1, these included, between which it is the same whether some mean is zero."""
         # A product of two vectors that is not 0 throughout changes its sign at its roots only. Where one is 0
         # throughout, the vectors turn from alike to opposite only where one of them is zero.
-        numbers = [NOTHING, WHOLE]
-        for i, j in self.crosses:
-            numbers.extend(roots_of(self.dots[(i, i)] if i == j else self.crosses[(i, j)]))
-        return ascending([number for number in numbers if _is_share(number)])
+        return marks_of([self.dots[(i, i)] if i == j else self.crosses[(i, j)] for i, j in self.crosses])
 
     def have_zero_anywhere(self):
         """Whether some mean is the zero vector at some share."""
@@ -59,11 +45,6 @@ class Means:
             if self.have_zero(mark):
                 return True
         return False
-
-
-def _is_share(number):
-    """Whether a number is from 0 to 1."""
-    return compare(number, NOTHING) >= 0 and compare(number, WHOLE) <= 0
 
 
 def some_mean_is_zero(vectors):

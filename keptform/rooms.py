@@ -1,7 +1,9 @@
 """Whether a letter keeps its form in all mixtures of masters, and where it does not."""
 
+from itertools import combinations
+
 from keptform.forms import fault, is_end, side_ends
-from keptform.letters import all_corners, need_letter, need_masters
+from keptform.letters import MOST_MASTERS, all_corners, need_letter, need_masters
 from keptform.means import some_mean_is_zero
 from keptform.shares import leads
 from keptform.turns import turn_worths
@@ -61,10 +63,8 @@ def bent(letter, masters):
     return tuple([corner for corner in all_corners(letter) if _bends(letter, masters, corner)])
 
 
-def is_kept(letter, masters):
-    """Whether the form holds in every mixture of the masters."""
-    need_letter(letter, 0)
-    need_masters(letter, masters, 1)
+def holds_throughout(letter, masters):
+    """Whether the form holds in every mixture of what surely is masters."""
     # Where no corner meets a side and no side falls, sides that cross in one mixture cross in all: a single drawing
     # tells it for the room.
     if fault(letter, masters[0]) is not None:
@@ -73,3 +73,30 @@ def is_kept(letter, masters):
         if _falls(letter, masters, part) or _bends(letter, masters, part) or _met_sides(letter, masters, part):
             return False
     return True
+
+
+def is_kept(letter, masters):
+    """Whether the form holds in every mixture of the masters."""
+    need_letter(letter, 0)
+    need_masters(letter, masters, 1)
+    return holds_throughout(letter, masters)
+
+
+def _parts(numbers):
+    """What is left of a row of numbers without one of them, unless nothing is left."""
+    if len(numbers) == 1:
+        return []
+    return [numbers[:at] + numbers[at + 1:] for at in range(len(numbers))]
+
+
+def largest_rooms(letter, drawings):
+    """The sets of 1 to 4 drawings that are kept and are part of no greater one, as rows of their numbers, ascending."""
+    kept = {}
+    for size in range(1, MOST_MASTERS + 1):
+        for numbers in combinations(range(len(drawings)), size):
+            # If masters are kept, so are any of them: where a part is not kept, there is no need to look.
+            if all([part in kept for part in _parts(numbers)]):
+                if holds_throughout(letter, [drawings[number] for number in numbers]):
+                    kept[numbers] = True
+    within = {part: True for numbers in kept for part in _parts(numbers)}
+    return sorted([numbers for numbers in kept if numbers not in within])

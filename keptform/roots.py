@@ -8,6 +8,9 @@ from math import gcd, isqrt
 
 from keptform.values import lowest
 
+NOTHING = (0, 1)
+WHOLE = (1, 1)
+
 
 def sign_of(whole):
     """-1, 0 or 1, as the integer is below, at or above 0."""
@@ -101,6 +104,17 @@ def ascending(numbers):
     for number in numbers:
         _put(ordered, number)
     return ordered
+
+
+def marks_of(polynomials):
+    """0, 1 and all numbers between at which one of the polynomials has a root, ascending.
+
+    Between two neighbours no polynomial changes its sign.
+    """
+    numbers = [NOTHING, WHOLE]
+    for polynomial in polynomials:
+        numbers.extend(roots_of(polynomial))
+    return ascending([number for number in numbers if compare(number, NOTHING) >= 0 and compare(number, WHOLE) <= 0])
 
 
 def _whole_part(number, times):

@@ -323,6 +323,20 @@ def random_drawing(chance, letter, width):
     return tuple(tuple((chance.randint(-width, width), chance.randint(-width, width)) for _ in row) for row in letter)
 
 
+def nearby(chance, drawing, width):
+    """The drawing with each corner moved a little, within -99 to 99."""
+    return tuple(tuple(tuple(max(-99, min(99, worth + chance.randint(-width, width))) for worth in place)
+                       for place in row) for row in drawing)
+
+
+def usual_manners(chance, letter, drawing):
+    """The letter with other manners, most of them as the drawing turns."""
+    at = places_of(drawing)
+    rows = [[slow_turn(letter, at, (r, k)) for k in range(len(row))] for r, row in enumerate(letter)]
+    signs = [["left" if worth > 0 else "right" if worth < 0 else "straight" for worth in row] for row in rows]
+    return tuple(tuple(chance.choice(("any", sign, sign, "left")) for sign in row) for row in signs)
+
+
 def grid(many, steps):
     """Weights for so many masters, in so many equal steps."""
     def rows(many, left):

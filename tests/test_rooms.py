@@ -7,9 +7,9 @@ import unittest
 from fractions import Fraction
 from itertools import permutations
 
-from helpers import ODD_VALUES, Case, as_lists, corners_of, ends_of, exact_number, grid, pairs_of, places_of
-from helpers import random_drawing, slow_bent, slow_fallen, slow_fault, slow_meetings, slow_mixture, slow_turn
-from helpers import spots_to_try, weights_for_share, weights_for_zero
+from helpers import ODD_VALUES, Case, as_lists, corners_of, ends_of, exact_number, grid, nearby, pairs_of, places_of
+from helpers import random_drawing, slow_bent, slow_fallen, slow_fault, slow_meetings, slow_mixture, spots_to_try
+from helpers import usual_manners, weights_for_share, weights_for_zero
 from keptform.forms import fault
 from keptform.letters import mixture
 from keptform.rooms import bent, fallen, is_kept, meetings
@@ -24,12 +24,6 @@ SQUARE = (((0, 0), (8, 0), (8, 8), (0, 8)),)
 AROUND = ((((0, 0), (14, 0), (0, 10)),), (((0, 0), (-2, 8), (-8, -6)),), (((0, 0), (-2, -8), (8, -6)),))
 # All corners come together at the weights (1, 3, 3) / 7, and nowhere else.
 SHRINKING = ((((0, 0), (12, 0), (0, 12)),), (((0, 0), (-2, 4), (-4, -2)),), (((0, 0), (-2, -4), (4, -2)),))
-
-
-def nearby(chance, drawing, width):
-    """The drawing with each corner moved a little, within -99 to 99."""
-    return tuple(tuple(tuple(max(-99, min(99, worth + chance.randint(-width, width))) for worth in place)
-                       for place in row) for row in drawing)
 
 
 class RoomCase(Case):
@@ -274,7 +268,7 @@ class RoomTest(RoomCase):
                 while slow_fault(letter, one) is not None:
                     one = random_drawing(chance, letter, max(width, 4))
                 other = nearby(chance, one, width // 4 + 1)
-            letter = self.often_right(chance, letter, one)
+            letter = usual_manners(chance, letter, one)
             met, fell, bend, kept = set(), set(), set(), True
             for spot in spots_to_try(one, other):
                 mixed = slow_mixture((one, other), (1 - spot, spot))
@@ -288,13 +282,6 @@ class RoomTest(RoomCase):
             self.assertIs(is_kept(letter, (one, other)), kept)
             seen[kept] += 1
         self.assertGreater(min(seen.values()), 5)
-
-    def often_right(self, chance, letter, drawing):
-        """The letter with other manners, most of them as the drawing turns."""
-        at = places_of(drawing)
-        rows = [[slow_turn(letter, at, (r, k)) for k in range(len(row))] for r, row in enumerate(letter)]
-        signs = [["left" if worth > 0 else "right" if worth < 0 else "straight" for worth in row] for row in rows]
-        return tuple(tuple(chance.choice(("any", sign, sign, "left")) for sign in row) for row in signs)
 
     def test_more_masters_like_slow_ones(self):
         chance = random.Random(43)

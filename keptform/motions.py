@@ -1,0 +1,73 @@
+"""Letters that change evenly from one drawing to another one: their form, at each spot between."""
+
+from keptform.forms import is_end, turns_as_it_must
+from keptform.letters import all_corners, next_corner
+from keptform.roots import marks_of, sign_at
+from keptform.vectors import cross_product, dot_product, moving_product, step
+
+ALWAYS_0 = (0, 0, 0)
+
+
+def _lead(one, other, start, end):
+    """The vector from a corner to another one; it moves with the spot."""
+    first, last = [step(drawing[start[0]][start[1]], drawing[end[0]][end[1]]) for drawing in (one, other)]
+    return (step(first, last), first)
+
+
+class Motion:
+    """What the form of a letter depends on between two drawings, as polynomials of the spot.
+
+    lengths has the squared lengths of the sides. By (side, corner), for corners that are no ends of the side, turns has
+    the turn at the side's end if one goes on to the corner, and dots the dot product of the vectors from the side's
+    ends to the corner: a corner on the side's line is on the side if and only if that is not above 0.
+    """
+
+    def __init__(self, letter, one, other):
+        self._letter = letter
+        self.lengths = {}
+        self.turns = {}
+        self.dots = {}
+        for side in all_corners(letter):
+            end = next_corner(letter, side)
+            along = _lead(one, other, side, end)
+            self.lengths[side] = moving_product(dot_product, along, along)
+            for corner in all_corners(letter):
+                if not is_end(letter, corner, side):
+                    onward = _lead(one, other, end, corner)
+                    self.turns[(side, corner)] = moving_product(cross_product, along, onward)
+                    self.dots[(side, corner)] = moving_product(dot_product, _lead(one, other, side, corner), onward)
+
+    def marks(self):
+        """Ascending spots from 0 to 1, these included, between which the form holds everywhere or nowhere."""
+        # Where a turn is 0 at all spots, only the dot product tells at which of them the corner comes to the side.
+        in_line = [self.dots[pair] for pair in self.dots if self.turns[pair] == ALWAYS_0]
+        return marks_of(list(self.lengths.values()) + list(self.turns.values()) + in_line)
+
+    def holds_at(self, spot):
+        """Whether the form holds at the spot."""
+        if any([sign_at(self.lengths[side], spot) == 0 for side in self.lengths]):
+            return False
+        signs = {pair: sign_at(self.turns[pair], spot) for pair in self.turns}
+        if any([signs[pair] == 0 and sign_at(self.dots[pair], spot) <= 0 for pair in signs]):
+            return False
+        return not self._bends(signs) and not self._crosses(signs)
+
+    def _bends(self, signs):
+        """Whether some corner does not turn as it must, where the turns have these signs."""
+        for side in all_corners(self._letter):
+            ring, number = next_corner(self._letter, side)
+            after = next_corner(self._letter, (ring, number))
+            if not turns_as_it_must(self._letter[ring][number], signs[(side, after)]):
+                return True
+        return False
+
+    def _crosses(self, signs):
+        """Whether some sides cross, where the turns have these signs, and no corner lies on a side."""
+        for side, other in signs:
+            end = next_corner(self._letter, side)
+            other_end = next_corner(self._letter, other)
+            # Sides with a common end have no other place in common where no corner lies on a side.
+            if (side, other_end) in signs and signs[(side, other)] * signs[(side, other_end)] < 0:
+                if signs[(other, side)] * signs[(other, end)] < 0:
+                    return True
+        return False
