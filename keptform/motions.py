@@ -5,8 +5,6 @@ from keptform.letters import all_corners, next_corner
 from keptform.roots import marks_of, sign_at
 from keptform.vectors import cross_product, dot_product, moving_product, step
 
-ALWAYS_0 = (0, 0, 0)
-
 
 def _lead(one, other, start, end):
     """The vector from a corner to another one; it moves with the spot."""
@@ -17,20 +15,17 @@ def _lead(one, other, start, end):
 class Motion:
     """What the form of a letter depends on between two drawings, as polynomials of the spot.
 
-    lengths has the squared lengths of the sides. By (side, corner), for corners that are no ends of the side, turns has
-    the turn at the side's end if one goes on to the corner, and dots the dot product of the vectors from the side's
-    ends to the corner: a corner on the side's line is on the side if and only if that is not above 0.
+    By (side, corner), for corners that are no ends of the side, turns has the turn at the side's end if one goes on to
+    the corner, and dots the dot product of the vectors from the side's ends to the corner.
     """
 
     def __init__(self, letter, one, other):
         self._letter = letter
-        self.lengths = {}
         self.turns = {}
         self.dots = {}
         for side in all_corners(letter):
             end = next_corner(letter, side)
             along = _lead(one, other, side, end)
-            self.lengths[side] = moving_product(dot_product, along, along)
             for corner in all_corners(letter):
                 if not is_end(letter, corner, side):
                     onward = _lead(one, other, end, corner)
@@ -39,15 +34,14 @@ class Motion:
 
     def marks(self):
         """Ascending spots from 0 to 1, these included, between which the form holds everywhere or nowhere."""
-        # Where a turn is 0 at all spots, only the dot product tells at which of them the corner comes to the side.
-        in_line = [self.dots[pair] for pair in self.dots if self.turns[pair] == ALWAYS_0]
-        return marks_of(list(self.lengths.values()) + list(self.turns.values()) + in_line)
+        # The form depends on the signs of these polynomials alone.
+        return marks_of(list(self.turns.values()) + list(self.dots.values()))
 
     def holds_at(self, spot):
         """Whether the form holds at the spot."""
-        if any([sign_at(self.lengths[side], spot) == 0 for side in self.lengths]):
-            return False
         signs = {pair: sign_at(self.turns[pair], spot) for pair in self.turns}
+        # A corner in line with a side lies on it where the side's ends are not on one hand of the corner. Where a side
+        # has fallen, the corner at which it begins lies on the next side: there is no need to look for that.
         if any([signs[pair] == 0 and sign_at(self.dots[pair], spot) <= 0 for pair in signs]):
             return False
         return not self._bends(signs) and not self._crosses(signs)
